@@ -1,0 +1,1 @@
+"""Frontparts: sums of words whose letters never change places."""

@@ -1,0 +1,48 @@
+"""The names, arguments and places of the interface, as far as it has landed."""
+
+import importlib
+import inspect
+import unittest
+
+FUNCTIONS = {
+    "bags": [
+        "together(one, other)", "less(one, other)", "behind(one, other)", "times(bag, number)",
+        "power(bag, number)", "mirrored(bag)", "replaced(bag, bags)", "top(bag)", "plain(bag)",
+        "level_of(bag, number)", "all_together(bags)", "all_behind(bags)", "in_order(bags)",
+        "number_at(bag, word)", "length(bag)", "first(bag)",
+    ],
+    "cuts": [
+        "cut(bag, number)", "crossing(bag, number)", "is_crossing(bag, number, thing)", "level_way(bag)",
+    ],
+    "fronts": [
+        "front_parts(bag)", "back_parts(bag)", "is_front_part(bag, thing)", "is_unsplittable(thing)",
+    ],
+}
+
+METHODS = {("bags", "Bag"): ["__init__(self, clock, words)", "__eq__(self, other)"]}
+
+
+class Interface(unittest.TestCase):
+
+    def told(self, function):
+        names = ", ".join(inspect.signature(function).parameters)
+        return f"{function.__name__}({names})"
+
+    def test_each_function_stands_in_its_file_with_its_arguments(self):
+        for module, lines in FUNCTIONS.items():
+            found = importlib.import_module(f"frontparts.{module}")
+            for line in lines:
+                function = getattr(found, line.partition("(")[0])
+                self.assertEqual(self.told(function), line)
+                self.assertEqual(function.__module__, f"frontparts.{module}")
+
+    def test_each_class_defines_its_own_methods(self):
+        for (module, name), lines in METHODS.items():
+            found = getattr(importlib.import_module(f"frontparts.{module}"), name)
+            self.assertEqual(found.__module__, f"frontparts.{module}")
+            for line in lines:
+                self.assertEqual(self.told(vars(found)[line.partition("(")[0]]), line)
+
+
+if __name__ == "__main__":
+    unittest.main()
