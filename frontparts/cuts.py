@@ -43,8 +43,8 @@ def level_way(bag):
     found = []
     left = table_of(plain(bag))
     size = 1
-    # Two fronts of a level bag are always one a front of the other, so the shortest one comes first.
-    while size < len(first_word(left)):
+    # Of two fronts of a level bag one is always a front of the other. At the length there is a cut, too.
+    while size <= len(first_word(left)):
         halves = halved(left, size, bag.clock)
         if halves is None:
             size += 1
@@ -52,8 +52,6 @@ def level_way(bag):
             found.append(bag_of(bag.clock, halves[0]))
             left = halves[1]
             size = 1
-    if first_word(left) != "":
-        found.append(bag_of(bag.clock, left))
     return tuple(found)
 
 

@@ -26,7 +26,6 @@ def is_front_part(bag, thing):
 
 def back_parts(bag):
     """The ascending list of all back parts."""
-    check_splittable(bag)
     return in_order([plain(mirrored(part)) for part in front_parts(mirrored(bag))])
 
 

@@ -7,7 +7,7 @@ for the next levels of front and back. It has at most one solution, or, for some
 
 from frontparts.cuts import halved
 from frontparts.shadows import shadow_of
-from frontparts.tables import added, first_word, inverse, multiplied, scaled
+from frontparts.tables import added, first_word, inverse, multiplied, scaled, tidied
 
 # With so few free numbers to try a shadow costs more than it spares.
 FEW_FREE = 2
@@ -25,13 +25,13 @@ class Search:
         steps = range(1, min(len(self.head), len(self.tail)) + 1)
         self.turns = {step: self.turn(step) for step in steps}
         self.shadow = None
-        if len([step for step in steps if not self.turns[step][2]]) > FEW_FREE:
+        if len([step for step in steps if self.turns[step][0] and not self.turns[step][2]]) > FEW_FREE:
             self.shadow = shadow_of(levels, self.front, clock)
 
-    def shares(self, level, kept):
-        """The triple (a, b, left) such that a level is front b + a back + left, front and back being the tops.
+    def shares(self, level):
+        """The triple (a, b, left) such that a level is front b + a back + left, front and back being the longest words.
 
-        No word of left begins with the head, or ends with the tail with another word than kept before it.
+        Of all that is front b + a back nothing is left, but for the part of one word in a: see turn.
         """
         size = len(self.head)
         turn = inverse(self.front[self.head], self.clock)
@@ -39,31 +39,27 @@ class Search:
         left = added(level, multiplied(self.front, backs, self.clock), -1, self.clock)
         size = len(self.tail)
         turn = inverse(self.back[self.tail], self.clock)
-        fronts = {word[:-size]: number * turn for word, number in left.items()
-                  if word.endswith(self.tail) and word[:-size] != kept}
+        fronts = {word[:-size]: number * turn for word, number in left.items() if word.endswith(self.tail)}
         left = added(left, multiplied(fronts, self.back, self.clock), -1, self.clock)
-        return scaled(fronts, 1, self.clock), scaled(backs, 1, self.clock), left
-
-    def kept(self, step):
-        """The one front of a level by which its fronts and backs are not told apart, None if there is none."""
-        if step in range(1, min(len(self.head), len(self.tail)) + 1):
-            return self.head[:len(self.head) - step]
-        return None
+        return tidied(fronts, self.clock), tidied(backs, self.clock), left
 
     def turn(self, step):
-        """The triple (a, b, left) of which each number of times may be put to the shares of a level."""
-        kept = self.kept(step)
-        level = {kept + word: number for word, number in self.back.items()}
-        fronts, backs, left = self.shares(level, kept)
-        return added({kept: 1}, fronts, -1, self.clock), scaled(backs, -1, self.clock), left
+        """The triple (a, b, left), left being front b + a back, of which each multiple may be put to shares.
+
+        It is that of the one word with which the head begins: only behind it words of the back may begin
+        as the head goes on, so that they are shared out as if they stood behind the front.
+        """
+        start = self.head[:len(self.head) - step]
+        fronts, backs, left = self.shares({start + word: number for word, number in self.back.items()})
+        return added({start: 1}, fronts, -1, self.clock), scaled(backs, -1, self.clock), left
 
     def solutions(self, level, step):
         """All pairs of the next levels of front and back that give a level."""
-        fronts, backs, left = self.shares(level, self.kept(step))
+        fronts, backs, left = self.shares(level)
         if step not in self.turns:
             return [] if left else [(fronts, backs)]
         more_fronts, more_backs, more = self.turns[step]
-        numbers = list(range(self.clock))
+        numbers = list(range(self.clock)) if more_fronts else [0]
         if more:
             word = first_word(more)
             numbers = [left.get(word, 0) * inverse(more[word], self.clock) % self.clock]
@@ -85,9 +81,8 @@ class Search:
         fronts, backs, told = state
         level = self.levels[step]
         for place in range(1, step):
-            if place < len(fronts) and step - place < len(backs):
-                known = multiplied(fronts[place], backs[step - place], self.clock)
-                level = added(level, known, -1, self.clock)
+            known = multiplied(fronts[place], backs[step - place], self.clock)
+            level = added(level, known, -1, self.clock)
         found = []
         for front, back in self.solutions(level, step):
             longer = told
@@ -117,14 +112,12 @@ def levels_of(table):
 
 
 def fronts_of(table, clock):
-    """All plain fronts of a plain table, as tables, itself among them."""
+    """All plain fronts of a plain table, as tables, ONE and itself among them (twice for a number alone)."""
     levels = levels_of(table)
-    found = [{"": 1}]
+    found = [{"": 1}, table]
     for size in range(1, len(levels) - 1):
         halves = halved(levels[0], size, clock)
         if halves is not None:
             search = Search(levels, halves, clock)
             found.extend(search.fronts())
-    if len(levels) > 1:
-        found.append(table)
     return found

@@ -216,8 +216,10 @@ class Refusing(Case):
             for _ in range(20):
                 table = random_table(chance, clock, "xyz", 3, 4)
                 level = len({len(word) for word in table}) == 1
-                call = (lambda part: level_way(part)) if level else (lambda part: self.refuses(NotLevel, level_way, part))
-                call(Bag(clock, table))
+                if level:
+                    level_way(Bag(clock, table))
+                else:
+                    self.refuses(NotLevel, level_way, Bag(clock, table))
 
 
 if __name__ == "__main__":

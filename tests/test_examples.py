@@ -4,6 +4,7 @@ import unittest
 
 from frontparts.bags import Bag, behind, first
 from frontparts.fronts import front_parts, is_unsplittable
+from frontparts.rows import base, continued
 
 x = Bag(2, {"x": 1})
 y = Bag(2, {"y": 1})
@@ -27,6 +28,12 @@ class Examples(unittest.TestCase):
 
     def test_e05(self):
         self.assertIs(is_unsplittable(Bag(3, {"xx": 1, "": 1})), True)
+
+    def test_e06(self):
+        self.assertEqual(len(base([x, Bag(2, {"xy": 1, "": 1})])), 1)
+
+    def test_e07(self):
+        self.assertIsNone(continued(x, y))
 
 
 if __name__ == "__main__":

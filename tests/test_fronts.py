@@ -6,7 +6,7 @@ from frontparts.bags import Bag, all_behind, behind, in_order, less, plain, time
 from frontparts.errors import IsNothing, TooLong
 from frontparts.fronts import back_parts, front_parts, is_front_part, is_unsplittable
 from tests.tools import CLOCKS, Case, all_products, all_tables, ascending, bag, chance_of, multiplied, nothing, one
-from tests.tools import pairs, random_bag, size, words_up_to
+from tests.tools import pairs, random_bag, random_table, size, words_up_to
 
 # Clock, letters and length of bags that are few enough to search through all candidates for their parts.
 SMALL = [(2, "x", 5), (2, "xy", 2), (2, "xyz", 2), (3, "x", 4), (3, "xy", 2), (5, "x", 3), (7, "x", 3)]
@@ -109,6 +109,27 @@ class LargerBags(Case):
     def test_the_most_parts_that_bags_of_one_letter_have(self):
         row = [line(7, number) for number in range(7)] + [line(7, number) for number in range(5)]
         self.check(all_behind(row), 3 ** 5 * 2 ** 2)
+
+    def test_lines_of_two_letters(self):
+        row = [bag(7, x=1, y=6, one=number) for number in range(1, 7)] + [bag(7, x=1, y=6)]
+        self.check(all_behind(row), 2 ** 7)
+        row = [bag(5, x=1, y=2, z=4, one=number) for number in range(1, 5)] * 2
+        self.check(all_behind(row), 3 ** 4)
+
+    def test_first_words_that_overlap(self):
+        # Here a front before the first word of a back gives, in part, what stands behind the first word of a front.
+        chance = chance_of(34)
+        for clock in CLOCKS:
+            tops = [({"xy": 1, "zx": clock - 1}, {"xx": 1, "yx": 1}), ({"xz": 1, "yx": 1}, {"xy": 1, "zy": 1}),
+                    ({"xxy": 1, "zxx": 1}, {"xx": 1, "yx": 1}), ({"xy": 1, "zx": 1}, {"xxz": 1, "yxz": 1})]
+            for front, back in tops:
+                for _ in range(10):
+                    one_bag = Bag(clock, {**random_table(chance, clock, "xyz", 1, 3), **front})
+                    other = Bag(clock, {**random_table(chance, clock, "xyz", 1, 3), **back})
+                    fronts = self.check(behind(one_bag, other))
+                    self.assertIn(plain(one_bag), fronts)
+                    more = self.check(all_behind([other, one_bag, other]))
+                    self.assertIn(plain(behind(other, one_bag)), more)
 
     def test_letters_that_stand_together(self):
         row = [line(7, number, "xy") for number in range(1, 7)]

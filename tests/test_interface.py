@@ -17,6 +17,15 @@ FUNCTIONS = {
     "fronts": [
         "front_parts(bag)", "back_parts(bag)", "is_front_part(bag, thing)", "is_unsplittable(thing)",
     ],
+    "rows": [
+        "rest_behind(front, bag)", "rest_ahead(bag, back)", "continued(one, other)", "rest(row, bag)",
+        "front_common(one, other)", "base(row)", "idle(row)", "made(row, bag)", "is_made(row, bag, thing)",
+    ],
+    "systems": ["solved(system, goals)", "is_solved(system, goals, thing)", "idle_all(system)"],
+    "euclids": [
+        "back_common(one, other)", "continuant(bags)", "continued_ahead(one, other)", "quotients(one, other)",
+    ],
+    "middles": ["middle_parts(bag)", "many_by_length(bag)"],
 }
 
 METHODS = {("bags", "Bag"): ["__init__(self, clock, words)", "__eq__(self, other)"]}

@@ -70,7 +70,8 @@ class Times(Case):
 
     def test_times(self):
         for part in some_bags(4):
-            for number in (0, 1, -1, part.clock - 1, part.clock, part.clock + 1, -part.clock, 10 ** 40 - 1, 1 - 10 ** 40):
+            for number in (0, 1, -1, part.clock - 1, part.clock, part.clock + 1, -part.clock, 10 ** 40 - 1,
+                           1 - 10 ** 40):
                 wanted = number_times(part.clock, part.words, number)
                 self.is_bag(self.answers(times, part, number), part.clock, pairs(part.clock, wanted))
 

@@ -139,6 +139,34 @@ def deep(kind, depth=40):
     return found
 
 
+def lead_of(parts):
+    """The least place at which a tuple of words is not nothing, and the first word there; None for nothing."""
+    for place, words in enumerate(parts):
+        if dict(words):
+            return place, min(dict(words), key=rank)
+    return None
+
+
+def left_over(clock, leaders, parts):
+    """A tuple of words less sums of such tuples, until no word begins with one by which one of them leads."""
+    left = [dict(words) for words in parts]
+    leads = [(*lead_of(leader), leader) for leader in leaders]
+    while True:
+        hits = [(place, rank(word), word, head, leader) for place, head, leader in leads
+                for word in left[place] if word.startswith(head)]
+        if not hits:
+            return tuple(pairs(clock, table) for table in left)
+        place, _, word, head, leader = min(hits, key=lambda hit: hit[:2])
+        turn = {word[len(head):]: -left[place][word] * pow(dict(leader[place])[head], -1, clock)}
+        for at, words in enumerate(leader):
+            left[at] = plus(clock, left[at], product(clock, words, turn))
+
+
+def divides(front, part):
+    """Whether a bag is the front with something behind it."""
+    return left_over(front.clock, [(front.words,)], (part.words,)) == ((),)
+
+
 def odd_things():
     """Objects of every kind that point 0.3 allows, right ones and wrong ones."""
     return [

@@ -1,0 +1,20 @@
+"""Middle parts, and how many front parts there are by their lengths (3.3)."""
+
+from frontparts.bags import in_order, length
+from frontparts.fronts import front_parts
+from frontparts.lots import lots_of
+from frontparts.rows import rest_behind
+
+
+def middle_parts(bag):
+    """The ascending list of all middle parts: what stands between two front parts, one within the other."""
+    parts = front_parts(bag)
+    pairs = list(zip(parts, lots_of(parts)))
+    return in_order([rest_behind(front, part) for part, lot in pairs for front, inner in pairs
+                     if inner & lot == inner])
+
+
+def many_by_length(bag):
+    """The list with, at each length up to that of the bag, the number of its front parts of this length."""
+    lengths = [length(part) for part in front_parts(bag)]
+    return [lengths.count(size) for size in range(length(bag) + 1)]
