@@ -5,12 +5,11 @@ from frontparts.bags import (
 )
 from frontparts.bases import basis_of, listed
 from frontparts.errors import NoRow, TooLong, UnlikeClocks
-from frontparts.fronts import front_parts, is_front_part
+from frontparts.fronts import MOST_LETTERS, front_parts, is_front_part
 from frontparts.reducing import divided, reduced
 from frontparts.solving import idle_tuples, is_solution, solution_of
 
 MOST_BAGS = 6
-MOST_LETTERS = 12
 
 
 def rest_behind(front, bag):

@@ -3,11 +3,11 @@
 import itertools
 import unittest
 
-from frontparts.bags import Bag, all_behind, behind, length, less, number_at, plain, times, together
+from frontparts.bags import Bag, all_behind, behind, length, less, plain, times, together
 from frontparts.errors import IsNothing, NoRow, TooLong, UnlikeClocks
 from frontparts.fronts import front_parts
 from frontparts.rows import base, continued, front_common, idle, is_made, made, rest, rest_ahead, rest_behind
-from tests.tools import CLOCKS, Case, all_tables, bag, chance_of, deep, divides, is_row, lead_of, left_over
+from tests.tools import CLOCKS, Case, all_tables, bag, chance_of, deep, divides, is_row, left_over
 from tests.tools import multiplied, nothing, odd_things, one, pairs, product, random_bag, rank, size, summed
 
 
@@ -294,20 +294,11 @@ class Idle(Case):
         found = self.answers(idle, row)
         self.assertIs(type(found), list)
         self.assertEqual(len(found), len(row) - len(base(row)))
-        leads = []
         for told in found:
             self.assertIs(type(told), tuple)
             self.assertEqual(len(told), len(row))
             self.assertEqual(summed(row, told), ())
-            place, word = lead_of([part.words for part in told])
-            self.assertEqual(number_at(told[place], word), 1)
-            leads.append((place, word))
-        self.assertEqual(leads, sorted(set(leads), key=lambda lead: (lead[0], rank(lead[1]))))
-        for told, own in zip(found, leads):
-            for place, head in leads:
-                if (place, head) != own:
-                    self.assertFalse(any(word.startswith(head) for word, _ in told[place].words))
-        return [tuple(part.words for part in told) for told in found]
+        return self.leads_apart(found)
 
     def test_the_one_list(self):
         for row in random_rows(61):

@@ -3,12 +3,12 @@
 import itertools
 import unittest
 
-from frontparts.bags import Bag, behind, number_at, times, together
+from frontparts.bags import Bag, behind, times, together
 from frontparts.errors import NoGoals, NoSystem
 from frontparts.rows import idle, is_made, made
 from frontparts.systems import idle_all, is_solved, solved
-from tests.tools import CLOCKS, Case, all_tables, bag, chance_of, deep, is_row, lead_of, left_over, nothing
-from tests.tools import odd_things, one, pairs, random_bag, rank, summed
+from tests.tools import CLOCKS, Case, all_tables, bag, chance_of, deep, is_row, left_over, nothing
+from tests.tools import odd_things, one, pairs, random_bag, summed
 
 
 def random_systems(seed, many=10):
@@ -134,20 +134,11 @@ class IdleAll(Case):
         clock = system[0][0].clock
         found = self.answers(idle_all, system)
         self.assertIs(type(found), list)
-        leads = []
         for told in found:
             self.assertIs(type(told), tuple)
             self.assertEqual(len(told), len(system[0]))
             self.assertTrue(solves(system, [nothing(clock) for _ in system], told))
-            place, word = lead_of([part.words for part in told])
-            self.assertEqual(number_at(told[place], word), 1)
-            leads.append((place, word))
-        self.assertEqual(leads, sorted(set(leads), key=lambda lead: (lead[0], rank(lead[1]))))
-        for told, own in zip(found, leads):
-            for place, head in leads:
-                if (place, head) != own:
-                    self.assertFalse(any(word.startswith(head) for word, _ in told[place].words))
-        return [tuple(part.words for part in told) for told in found]
+        return self.leads_apart(found)
 
     def test_the_one_list(self):
         for system in random_systems(86):

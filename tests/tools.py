@@ -254,6 +254,20 @@ class Case(unittest.TestCase):
             self.assertIs(type(word), str)
             self.assertIs(type(number), int)
 
+    def leads_apart(self, found):
+        """Checks the leading words of a list of idle tuples, as point 2.3 tells of them. The tuples of their words."""
+        leads = []
+        for told in found:
+            place, word = lead_of([part.words for part in told])
+            self.assertEqual(dict(told[place].words)[word], 1)
+            leads.append((place, word))
+        self.assertEqual(leads, sorted(set(leads), key=lambda lead: (lead[0], rank(lead[1]))))
+        for told, own in zip(found, leads):
+            for place, head in leads:
+                if (place, head) != own:
+                    self.assertFalse(any(word.startswith(head) for word, _ in told[place].words))
+        return [tuple(part.words for part in told) for told in found]
+
     def judges_oddly(self, function, *arguments):
         """Calls a judging function with all odd things: each answer is a flag. The list of the things it takes."""
         taken = []
