@@ -2,16 +2,16 @@
 
 from frontparts.bags import in_order, length
 from frontparts.fronts import front_parts
-from frontparts.lots import lots_of
+from frontparts.lots import Web, within
 from frontparts.rows import rest_behind
 
 
 def middle_parts(bag):
     """The ascending list of all middle parts: what stands between two front parts, one within the other."""
-    parts = front_parts(bag)
-    pairs = list(zip(parts, lots_of(parts)))
+    web = Web(bag)
+    pairs = list(zip(web.parts, web.lots))
     return in_order([rest_behind(front, part) for part, lot in pairs for front, inner in pairs
-                     if inner & lot == inner])
+                     if within(inner, lot)])
 
 
 def many_by_length(bag):

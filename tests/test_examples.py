@@ -5,6 +5,8 @@ import unittest
 from frontparts.bags import Bag, behind, first
 from frontparts.fronts import front_parts, is_unsplittable
 from frontparts.rows import base, continued
+from frontparts.ways import many_ways
+from frontparts.webs import befores
 
 x = Bag(2, {"x": 1})
 y = Bag(2, {"y": 1})
@@ -25,6 +27,10 @@ class Examples(unittest.TestCase):
             [(("", 1),), (("y", 1),), (("yx", 1),), (("yx", 1), ("", 1)), (("yxy", 1), ("y", 1)),
              (("yxyx", 1), ("yx", 1))],
         )
+
+    def test_e04(self):
+        self.assertEqual(befores(f), [(0, 1)])
+        self.assertEqual(many_ways(f), 3)
 
     def test_e05(self):
         self.assertIs(is_unsplittable(Bag(3, {"xx": 1, "": 1})), True)

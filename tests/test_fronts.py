@@ -5,6 +5,7 @@ import unittest
 from frontparts.bags import Bag, all_behind, behind, in_order, less, plain, times, together
 from frontparts.errors import IsNothing, TooLong
 from frontparts.fronts import back_parts, front_parts, is_front_part, is_unsplittable
+from tests.samples import line
 from tests.tools import CLOCKS, Case, all_products, all_tables, ascending, bag, chance_of, multiplied, nothing, one
 from tests.tools import pairs, random_bag, random_table, size, words_up_to
 
@@ -18,11 +19,6 @@ def plain_tables(clock, letters, most):
         words = pairs(clock, table)
         if size(words) == most and words[0][1] == 1:
             yield words
-
-
-def line(clock, number, word="x"):
-    """A word, with a number put to it."""
-    return Bag(clock, {word: 1, "": number} if number % clock else {word: 1})
 
 
 class SmallBags(Case):

@@ -26,6 +26,17 @@ FUNCTIONS = {
         "back_common(one, other)", "continuant(bags)", "continued_ahead(one, other)", "quotients(one, other)",
     ],
     "middles": ["middle_parts(bag)", "many_by_length(bag)"],
+    "webs": ["knots(bag)", "befores(bag)", "lot_of(bag, part)", "part_of(bag, lot)", "many_parts(bag)"],
+    "ways": [
+        "way_of(bag, order)", "order_of(bag, way)", "way_at(bag, number)", "is_way(bag, thing)", "many_ways(bag)",
+        "index_of(bag, way)",
+    ],
+    "exchanges": [
+        "exchanged(bag, way, place)", "distance(bag, one, other)", "exchanges(bag, one, other)",
+        "is_exchanges(bag, one, other, thing)", "at_place(bag, place)", "factors_at(bag, knot)",
+    ],
+    "listing": ["all_ways(bag)", "farthest(bag)"],
+    "priced": ["cheapest_order(bag, prices)", "many_cheapest(bag, prices)"],
 }
 
 METHODS = {("bags", "Bag"): ["__init__(self, clock, words)", "__eq__(self, other)"]}

@@ -5,7 +5,8 @@ import random
 import unittest
 
 from frontparts import errors
-from frontparts.bags import Bag
+from frontparts.bags import Bag, behind
+from frontparts.errors import IsNothing, TooLong
 
 CLOCKS = (2, 3, 5, 7)
 LETTERS = "xyz"
@@ -219,6 +220,14 @@ class Case(unittest.TestCase):
         self.assertIs(type(caught.exception), error, (function, arguments))
         self.assertEqual(told(list(arguments)), before)
         return caught.exception
+
+    def splits_first(self, function, *others):
+        """A function of a bag raises the errors of point 3.2 before those of its other arguments."""
+        edge = Bag(2, {"x" * 11 + "y": 1, "y": 1})
+        for clock in CLOCKS:
+            self.refuses(IsNothing, function, nothing(clock), *others)
+        for long in (behind(edge, bag(2, x=1)), behind(bag(2, y=1), edge), behind(edge, edge)):
+            self.assertEqual(self.refuses(TooLong, function, long, *others).most, 12)
 
     def refuses_all_but(self, fits, error, call):
         """A call of one argument raises the error for each odd thing that does not fit, and for no other one."""
