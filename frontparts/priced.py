@@ -32,7 +32,7 @@ def cheapest_row(bag, prices):
             price, order, many = found[lot + (1 << knot)]
             choices.append((price + prices.get((knot, place), 0), (knot,) + order, many))
         best = min(choices)
-        found[lot] = (best[0], best[1], sum([many for price, _, many in choices if price == best[0]]))
+        found[lot] = (best[0], best[1], sum([row[2] for row in choices if row[0] == best[0]]))
     return found[0]
 
 

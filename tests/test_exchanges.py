@@ -13,7 +13,7 @@ from tests.tools import CLOCKS, Case, bag, chance_of, deep, multiplied, odd_thin
 
 
 def ordinary(seed):
-    return [*plain_examples(), *many_webs(seed, 8), *many_webs(seed + 1, 14, least=4)]
+    return [*plain_examples(), *many_webs(seed, 6), *many_webs(seed + 1, 9, least=4)]
 
 
 def some_pairs(seed, orders, many):

@@ -37,6 +37,10 @@ FUNCTIONS = {
     ],
     "listing": ["all_ways(bag)", "farthest(bag)"],
     "priced": ["cheapest_order(bag, prices)", "many_cheapest(bag, prices)"],
+    "widths": ["widest(bag)", "deepest(bag)", "cover(bag)", "is_cover(bag, thing)"],
+    "alikes": ["alike(one, other)", "is_alike(one, other, thing)"],
+    "carriers": ["carriers(one, other)"],
+    "classes": ["alike_classes(bags)", "knot_classes(bag)"],
 }
 
 METHODS = {("bags", "Bag"): ["__init__(self, clock, words)", "__eq__(self, other)"]}

@@ -165,7 +165,7 @@ class Refusing(Case):
             self.refuses(NoOrder, way_of, F, wrong)
 
     def test_no_way(self):
-        for part in (F, FLAT, CHAIN, *many_webs(522, 6, least=2)):
+        for part in (F, FLAT, CHAIN, *many_webs(522, 2, least=2)):
             way = way_at(part, 0)
             for wrong in [*odd_things(), *wrong_ways(way), Plan(part).orders()[0], deep(tuple, 39) * len(way)]:
                 self.assertIs(is_way(part, wrong), False)

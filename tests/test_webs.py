@@ -101,7 +101,7 @@ class Lots(Case):
                     self.refuses(NoLot, part_of, part, row)
 
     def test_common_parts_and_continuations(self):
-        for part in [F, FLAT, CHAIN, *many_webs(412, 6, least=2)]:
+        for part in [F, FLAT, CHAIN, *many_webs(412, 3, least=2)]:
             for a, b in itertools.combinations(front_parts(part), 2):
                 both = set(lot_of(part, a)) & set(lot_of(part, b))
                 either = set(lot_of(part, a)) | set(lot_of(part, b))
