@@ -58,6 +58,16 @@ def is_bag(thing, clock):
     return isinstance(thing, Bag) and thing.clock == clock
 
 
+def has_only(bag, letters):
+    """Whether a bag has no other letters than these."""
+    return all([word.strip(letters) == "" for word, _ in bag.words])
+
+
+def is_plain(bag):
+    """Whether the first word of a bag has the number 1."""
+    return len(bag.words) > 0 and bag.words[0][1] == 1
+
+
 def are_bags(thing):
     """Whether a thing is a list or tuple of one bag or more, all of one clock."""
     if not isinstance(thing, (list, tuple)) or len(thing) == 0 or not isinstance(thing[0], Bag):

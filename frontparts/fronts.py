@@ -1,6 +1,6 @@
 """Front parts, back parts, and bags that cannot be split (3.2)."""
 
-from frontparts.bags import Bag, bag_of, check_something, in_order, is_bag, length, mirrored, plain, table_of
+from frontparts.bags import Bag, bag_of, check_something, in_order, is_bag, is_plain, length, mirrored, plain, table_of
 from frontparts.errors import TooLong
 from frontparts.reducing import divided
 from frontparts.searching import fronts_of
@@ -18,7 +18,7 @@ def front_parts(bag):
 def is_front_part(bag, thing):
     """Whether a thing is a front part of the bag."""
     check_something(bag)
-    if not is_bag(thing, bag.clock) or not thing.words or plain(thing) != thing:
+    if not is_bag(thing, bag.clock) or not is_plain(thing):
         return False
     _, left = divided(table_of(bag), table_of(thing), bag.clock)
     return not left

@@ -2,9 +2,12 @@
 
 import unittest
 
-from frontparts.bags import Bag, behind, first
+from frontparts.bags import Bag, behind, first, together
 from frontparts.fronts import front_parts, is_unsplittable
+from frontparts.letters import twist
+from frontparts.places import change_places, root
 from frontparts.rows import base, continued
+from frontparts.starts import beginnings
 from frontparts.ways import many_ways
 from frontparts.webs import befores
 
@@ -40,6 +43,18 @@ class Examples(unittest.TestCase):
 
     def test_e07(self):
         self.assertIsNone(continued(x, y))
+
+    def test_e08(self):
+        self.assertIs(change_places(x, Bag(2, {"xy": 1, "": 1})), False)
+
+    def test_e09(self):
+        self.assertEqual(root(Bag(2, {"xyxy": 1, "xy": 1})).words, (("xy", 1),))
+
+    def test_e10(self):
+        self.assertEqual(beginnings("xy", Bag(2, {"x": 1, "yx": 1, "yy": 1})).words, (("y", 1), ("", 1)))
+
+    def test_e11(self):
+        self.assertEqual(twist(x, together(y, behind(x, x))), 1)
 
 
 if __name__ == "__main__":

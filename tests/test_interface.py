@@ -41,6 +41,13 @@ FUNCTIONS = {
     "alikes": ["alike(one, other)", "is_alike(one, other, thing)"],
     "carriers": ["carriers(one, other)"],
     "classes": ["alike_classes(bags)", "knot_classes(bag)"],
+    "places": [
+        "change_places(one, other)", "root(bag)", "one_root(one, other)", "in_powers(bag, base)",
+        "products(one, other, most)", "dependence(one, other, most)",
+    ],
+    "stocks": ["cheapest(goal, stock)", "heights(goal, stock)", "many_rows(goal, stock)"],
+    "starts": ["is_full(alphabet, thing)", "beginnings(alphabet, bag)", "unmet(alphabet, bag, letters)"],
+    "letters": ["peelings(one, other)", "is_peelings(one, other, thing)", "twist(one, other)"],
 }
 
 METHODS = {("bags", "Bag"): ["__init__(self, clock, words)", "__eq__(self, other)"]}
