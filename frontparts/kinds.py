@@ -1,5 +1,7 @@
 """What the document calls an integer, a clock and a word, told of any object."""
 
+from frontparts.errors import NoClock
+
 CLOCKS = (2, 3, 5, 7)
 LETTERS = "xyz"
 
@@ -17,6 +19,12 @@ def is_from_to(thing, low, high):
 def is_clock(thing):
     """Whether a thing is a clock."""
     return is_integer(thing) and thing in CLOCKS
+
+
+def check_clock(thing):
+    """Refuses what is no clock."""
+    if not is_clock(thing):
+        raise NoClock()
 
 
 def is_word(thing):

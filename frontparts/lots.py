@@ -45,6 +45,11 @@ class Web:
         """Whether the one knot is before the other one."""
         return has(self.before[other], knot)
 
+    def pairs(self):
+        """The ascending list of the pairs of knots of which the first one is before the second one."""
+        numbers = range(len(self.knots))
+        return [(knot, other) for knot in numbers for other in numbers if self.is_before(knot, other)]
+
     def nexts(self, lot):
         """The ascending list of the knots that can be put to a lot."""
         return [knot for knot, before in enumerate(self.before) if not has(lot, knot) and within(before, lot)]

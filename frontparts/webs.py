@@ -13,9 +13,7 @@ def knots(bag):
 
 def befores(bag):
     """The ascending list of the pairs of knots of which the first one is before the second one."""
-    web = Web(bag)
-    numbers = range(len(web.knots))
-    return [(knot, other) for knot in numbers for other in numbers if web.is_before(knot, other)]
+    return Web(bag).pairs()
 
 
 def lot_of(bag, part):

@@ -1,4 +1,4 @@
-"""The examples of the document, as far as they have landed, word for word."""
+"""The examples of the document, word for word."""
 
 import unittest
 
@@ -8,6 +8,7 @@ from frontparts.letters import twist
 from frontparts.places import change_places, root
 from frontparts.rows import base, continued
 from frontparts.starts import beginnings
+from frontparts.texts import bag_text
 from frontparts.ways import many_ways
 from frontparts.webs import befores
 
@@ -55,6 +56,9 @@ class Examples(unittest.TestCase):
 
     def test_e11(self):
         self.assertEqual(twist(x, together(y, behind(x, x))), 1)
+
+    def test_e12(self):
+        self.assertEqual(bag_text(Bag(3, {"xy": 2, "x": 1, "": 1})), "2 xy + x + 1")
 
 
 if __name__ == "__main__":

@@ -1,4 +1,4 @@
-"""The names, arguments and places of the interface, as far as it has landed."""
+"""The names, arguments and places of the interface."""
 
 import importlib
 import inspect
@@ -48,9 +48,23 @@ FUNCTIONS = {
     "stocks": ["cheapest(goal, stock)", "heights(goal, stock)", "many_rows(goal, stock)"],
     "starts": ["is_full(alphabet, thing)", "beginnings(alphabet, bag)", "unmet(alphabet, bag, letters)"],
     "letters": ["peelings(one, other)", "is_peelings(one, other, thing)", "twist(one, other)"],
+    "counting": [
+        "census(clock, letters, length)", "many_unsplittable(clock, letters, length)",
+        "refuted(claim, clock, letters, length)",
+    ],
+    "texts": ["bag_text(bag)", "row_text(bags)", "way_text(way)", "web_text(bag)"],
+    "reading": ["read_bag(clock, text)", "read_row(text)", "read_way(clock, text)"],
 }
 
-METHODS = {("bags", "Bag"): ["__init__(self, clock, words)", "__eq__(self, other)"]}
+METHODS = {
+    ("bags", "Bag"): ["__init__(self, clock, words)", "__eq__(self, other)"],
+    ("bench", "Bench"): [
+        "__init__(self, clock)", "lay(self, thing)", "take(self, place)", "put(self, place, word, number)",
+        "fuse(self, place)", "cleave(self, place, number)", "bags(self)", "whole(self)", "back(self)", "depth(self)",
+        "copy(self)", "trying(self, action)",
+    ],
+    ("desk", "Desk"): ["__init__(self, clock)", "tell(self, line)", "undoable(self)"],
+}
 
 
 class Interface(unittest.TestCase):
