@@ -9,8 +9,6 @@ from frontparts.lots import Web
 ALPHABETS = ("x", "xy")
 MOST_LETTERS = 6
 MOST_BAGS = 1500
-# The web of an unsplittable bag: one knot, itself.
-ALONE = (1, ())
 
 
 def census(clock, letters, length):
@@ -26,7 +24,8 @@ def census(clock, letters, length):
 
 def many_unsplittable(clock, letters, length):
     """The number of the unsplittable ones among all plain bags of a length."""
-    return census(clock, letters, length).get(ALONE, 0)
+    check_census(clock, letters, length)
+    return len([bag for bag in plain_bags(clock, letters, length) if is_unsplittable(bag)])
 
 
 def refuted(claim, clock, letters, length):
@@ -43,7 +42,7 @@ def refuted(claim, clock, letters, length):
 def check_census(clock, letters, length):
     """Refuses what is no clock, no alphabet, no number of letters, and too many bags."""
     check_clock(clock)
-    if not isinstance(letters, str) or letters not in ALPHABETS:
+    if letters not in ALPHABETS:
         raise NoAlphabet()
     if not is_from_to(length, 1, MOST_LETTERS):
         raise NoNumber()

@@ -12,6 +12,7 @@ ALPHABET = "xy"
 MOST_LETTERS = 12
 MOST_POWERS = 13
 MOST_PEELINGS = 200
+SWAP = ("swap",)
 
 
 def peelings(one, other):
@@ -56,7 +57,7 @@ def straightening(one, other):
     clock = one.clock
     found = []
     if number_at(one, "x") == 0:
-        found.append(("swap",))
+        found.append(SWAP)
         one, other = other, one
     turn = number_at(other, "x") * inverse(number_at(one, "x"), clock)
     number = number_at(other, "") - turn * number_at(one, "")
@@ -105,13 +106,9 @@ def is_peelings(one, other, thing):
 
 def is_peeling(clock, thing):
     """Whether a thing has the form of a peeling."""
-    if not isinstance(thing, tuple) or len(thing) == 0 or not isinstance(thing[0], str):
-        return False
-    if len(thing) == 1:
-        return thing[0] == "swap"
-    if len(thing) != 2 or thing[0] not in ("first", "second"):
-        return False
-    if not isinstance(thing[1], tuple) or len(thing[1]) > MOST_POWERS:
+    if not isinstance(thing, tuple) or len(thing) != 2:
+        return thing == SWAP
+    if thing[0] not in ("first", "second") or not isinstance(thing[1], tuple) or len(thing[1]) > MOST_POWERS:
         return False
     return all([is_from_to(number, 0, clock - 1) for number in thing[1]])
 
@@ -121,7 +118,7 @@ def is_lengthening(step, one, other, most):
     if len(step) == 1:
         return False
     base = other if step[0] == "first" else one
-    # What has the greatest power in it is as long as this power, unless it is not longer than both bags.
+    # Nothing there is as long as such a power, so that taking it off leaves all of its longest words.
     powers = [place for place, number in enumerate(step[1]) if number]
     return max(powers, default=0) * length(base) > most
 
@@ -129,7 +126,8 @@ def is_lengthening(step, one, other, most):
 def twist(one, other):
     """The number by which one other less other one is x y less y x, None if it is no such number but 0."""
     check_pair(one, other)
-    # No peeling but a swap changes one other less other one. The longest products are spared, or found needless.
+    # By the ninth fact there is none if no peeling is. None but a swap changes one other less other one, so that
+    # of two bags that are equally long, and may have thousands of words, the one is made shorter first.
     while max(length(one), length(other)) > 1:
         step = shortening(one, other)
         if step is None:

@@ -1,7 +1,7 @@
 """Bags that change places, their one root, and what products of two bags satisfy (point 7)."""
 
 from frontparts.bags import (
-    bag_of, behind, check_clocks, check_something, length, less, level_of, number_at, plain, table_of,
+    bag_of, behind, check_clocks, check_something, length, less, level_of, plain, table_of,
 )
 from frontparts.errors import IsNumber, NoNumber, TooLong
 from frontparts.fronts import front_parts
@@ -15,7 +15,6 @@ MOST_SIGNS = 5
 
 def change_places(one, other):
     """Whether two bags give the same whichever of them stands first."""
-    check_clocks(one, other)
     return behind(one, other) == behind(other, one)
 
 
@@ -27,8 +26,8 @@ def root(bag):
     # The bag is a sum of powers of its root, so that without its empty word it begins with the root.
     free = less(bag, level_of(bag, 0))
     for part in front_parts(free):
-        # A shorter one is there at least twice, and what changes places with the bag is no shorter than its root.
-        if 0 < 2 * length(part) <= length(bag) and number_at(part, "") == 0 and change_places(part, bag):
+        # Of all that change places with the bag the root is the least; if it is not the whole, it is there twice.
+        if 0 < 2 * length(part) <= length(bag) and change_places(part, bag):
             return part
     return plain(free)
 
@@ -93,10 +92,8 @@ def check_most(one, other, most):
 def dependence(one, other, most):
     """The first sum of products that is nothing, as a dict from signs to numbers, or None."""
     check_most(one, other, most)
-    # By the seventh fact there is none unless they change places, and then 10 less 01 is nothing.
-    if not change_places(one, other):
-        return None
     rows = []
+    # By the seventh fact there is none unless they change places, and then 10 less 01 is nothing.
     for signs, bag in products(one, other, min(most, 2)):
         left = table_of(bag)
         numbers = {signs: 1}

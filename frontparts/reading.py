@@ -59,14 +59,14 @@ def told_bag(clock, text):
     table = {}
     for term in text.split(" + "):
         word, number = told_term(clock, term)
-        if number is None or word in table:
+        if word in table:
             return None
         table[word] = number
     return Bag(clock, table) if are_words(clock, table) else None
 
 
 def told_term(clock, term):
-    """The pair of a word and its number that a string tells; None for the number if it has not this form."""
+    """The pair of a word and its number that a string tells, which are none if the string has not this form."""
     numbers = {f"{number}": number for number in range(1, clock)}
     if term in numbers:
         return ("", numbers[term])

@@ -46,7 +46,7 @@ def unmet(alphabet, bag, letters):
 
 def check_alphabet(thing):
     """Refuses what is none of the two alphabets."""
-    if not isinstance(thing, str) or thing not in ALPHABETS:
+    if thing not in ALPHABETS:
         raise NoAlphabet()
 
 

@@ -7,7 +7,7 @@ import itertools
 
 from frontparts.bags import Bag, all_behind, length, times
 from frontparts.fronts import front_parts
-from tests.tools import CLOCKS, bag, chance_of, divides, one, size
+from tests.tools import CLOCKS, bag, chance_of, divides, one, random_bag, size
 
 # Its knots are y, y x and y x + 1, the first one before the second one.
 F = Bag(2, {"yxyx": 1, "yx": 1})
@@ -41,6 +41,19 @@ def random_lines(chance, clock, many):
     words = [chance.choice(("x", "x", "y", "y", "xy", "yx")) for _ in range(many)]
     row = [line(clock, chance.randint(0 if len(word) == 1 else 1, clock - 1), word) for word in words]
     return times(all_behind(row), chance.randint(1, clock - 1))
+
+
+def bags_for_texts(seed, many, most):
+    """Nothing, numbers alone, single words, and bags by chance, with all numbers of all clocks."""
+    chance = chance_of(seed)
+    for clock in CLOCKS:
+        yield Bag(clock, {})
+        for number in range(1, clock):
+            yield bag(clock, one=number)
+            yield bag(clock, xyz=number)
+            yield bag(clock, z=number, one=clock - number)
+        for _ in range(many):
+            yield random_bag(chance, clock, most=most, many=6)
 
 
 def plain_examples():

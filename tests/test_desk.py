@@ -291,12 +291,13 @@ class Refusing(Case):
             desk = told_desk(clock, {"n": bag(clock, one=clock - 1), "o": nothing(clock), "l": bag(clock, xyzxyzxyz=1),
                                      "m": bag(clock, xyzx=1)})
             desk.tell("product l m m")
-            for word in ("knots o", "befores o", "wide o", "deep o", "parts o", "part o 0", "part o 7", "ways o", "way o 0", "way o 7", "root o"):
-                self.refused(IsNothing, word, desk)
-            for word in ("knots m", "befores m", "wide m", "deep m", "parts m", "part m 0", "part m 999999999", "ways m", "way m 0", "way m 99"):
-                self.assertEqual(self.refused(TooLong, word, desk).most, 12)
-            for word in ("root l", "root m"):
-                self.assertEqual(self.refused(TooLong, word, desk).most, 8)
+            for line in ("knots {}", "befores {}", "wide {}", "deep {}", "parts {}", "part {} 0", "part {} 999999999",
+                         "ways {}", "way {} 0", "way {} 7"):
+                self.refused(IsNothing, line.format("o"), desk)
+                self.assertEqual(self.refused(TooLong, line.format("m"), desk).most, 12)
+            self.refused(IsNothing, "root o", desk)
+            for line in ("root l", "root m"):
+                self.assertEqual(self.refused(TooLong, line, desk).most, 8)
             self.refused(IsNumber, "root n", desk)
             self.refused(NoNumber, "part n 1", desk)
             self.refused(NoNumber, "way n 1", desk)

@@ -6,7 +6,7 @@ import unittest
 from frontparts.bags import Bag, behind, power, times, together
 from frontparts.errors import NoLetters, TooLong, UnlikeClocks
 from frontparts.letters import is_peelings, peelings, twist
-from tests.tools import CLOCKS, Case, all_tables, bag, chance_of, deep, nothing, odd_things, one, pairs, plus, product
+from tests.tools import CLOCKS, Case, all_tables, bag, chance_of, deep, nothing, odd_things, one, plus, product
 from tests.tools import random_bag, size
 from tests.tools import times as number_times
 
@@ -264,12 +264,21 @@ class Judging(Case):
         self.assertIs(is_peelings(x, part, (right,)), True)
         for wrong in ([right], right, (), (list(right),), (("second", [1, 0, 2]),), (("second", (1, 3, 2)),), (("second", (1, -3, 2)),),
                       (("second", (4, 0, 2)),), (("second", (True, 0, 2)),), (("second", (1, False, 2)),), (("second", (1, None, 2)),),
-                      (("second", 1, 0, 2),), (("second",),), (("second", (1, 0, 2), ()),), (("Second", (1, 0, 2)),), (("third", (1, 0, 2)),),
+                      (("second", 1, 0, 2),), (("second",),), (("second", (1, 0, 2), ()),), (("Second", (1, 0, 2)),),
+                      (("third", (1, 0, 2)),),
                       ((1, (1, 0, 2)),), ((None, (1, 0, 2)),), ((("second",), (1, 0, 2)),), ((b"second", (1, 0, 2)),), (right, None),
                       (right, ()), (right, "swap"), (right, ("swap", ())), (right, ("swap", (0,))), (right, ["swap"]), (right, ("first",)),
                       (right, right), (right, deep(tuple, 39)), (deep(list, 39),), ((deep(dict, 38), (1, 0, 2)),),
                       (("second", (deep(tuple, 37),)),), {0: right}, None, x, (x,), (x, part)):
             self.assertIs(is_peelings(x, part, wrong), False)
+        # The number of ONE may be told as 1 alone.
+        self.assertIs(is_peelings(x, bag(3, y=1, one=1), (("second", (1,)),)), True)
+        for wrong in ((-2,), (4,), (1, 0, -3), (1, 3), (True,), (1, False)):
+            self.assertIs(is_peelings(x, bag(3, y=1, one=1), (("second", wrong),)), False)
+        self.assertIs(is_peelings(x, bag(3, y=1, one=2), (("second", (-1,)),)), False)
+        self.assertIs(is_peelings(bag(3, y=1), x, (("swap",),)), True)
+        for wrong in (("swap", ()), ("third", ()), ("", ()), ("third",), (None,), (("swap",),), ("swap", "swap"), (b"swap",), ("swa",)):
+            self.assertIs(is_peelings(bag(3, y=1), x, (wrong,)), False)
 
     def test_things_of_all_kinds(self):
         self.assertEqual(self.judges_oddly(is_peelings, bag(2, x=1), bag(2, y=1)), [()])

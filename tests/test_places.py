@@ -289,6 +289,7 @@ class Products(Case):
             for parts in ((bag(3, x=1), bag(3, y=1)), (nothing(3), one(3)), (bag(3, x=1), bag(3, x=1))):
                 self.refuses_all_but(lambda thing: is_integer(thing) and 0 <= thing <= 5, NoNumber,
                                      lambda thing: call(*parts, thing))
+                self.refuses(NoNumber, call, *parts, 6)
 
 
 class Dependence(Case):

@@ -7,9 +7,8 @@ from frontparts.errors import BadText, NoClock
 from frontparts.listing import all_ways
 from frontparts.reading import read_bag, read_row, read_way
 from frontparts.texts import bag_text, row_text, way_text
-from tests.samples import CHAIN, F, many_webs, plain_examples
-from tests.tools import CLOCKS, Case, bag, chance_of, deep, is_integer, nothing, odd_things, one, pairs, random_bag
-from tests.tools import words_up_to
+from tests.samples import CHAIN, F, bags_for_texts, many_webs, plain_examples
+from tests.tools import CLOCKS, Case, bag, chance_of, deep, is_integer, nothing, odd_things, one, pairs, words_up_to
 
 # None of these is a text of a bag, whatever the clock.
 WRONG = (
@@ -21,30 +20,18 @@ WRONG = (
 )
 
 
-def some_bags(seed, many=15):
-    chance = chance_of(seed)
-    for clock in CLOCKS:
-        yield nothing(clock)
-        for number in range(1, clock):
-            yield bag(clock, one=number)
-            yield bag(clock, xyz=number)
-            yield bag(clock, z=number, one=clock - number)
-        for _ in range(many):
-            yield random_bag(chance, clock, most=12, many=6)
-
-
 class Bags(Case):
 
     def bad(self, clock, text, line=1):
         self.assertEqual(self.refuses(BadText, read_bag, clock, text).line, line, (clock, text))
 
     def test_what_was_told_is_read(self):
-        for part in some_bags(2001):
+        for part in bags_for_texts(2001, 15, 12):
             self.is_bag(self.answers(read_bag, part.clock, bag_text(part)), part.clock, part.words)
 
     def test_words_in_any_order(self):
         chance = chance_of(2002)
-        for part in some_bags(2003):
+        for part in bags_for_texts(2003, 15, 12):
             terms = bag_text(part).split(" + ")
             chance.shuffle(terms)
             self.is_bag(read_bag(part.clock, " + ".join(terms)), part.clock, part.words)
@@ -74,7 +61,7 @@ class Bags(Case):
     def test_one_sign_changed(self):
         chance = chance_of(2004)
         right = 0
-        for part in [*some_bags(2005, 6)] * 2:
+        for part in [*bags_for_texts(2005, 6, 12)] * 2:
             text = bag_text(part)
             at = chance.randrange(len(text) + 1)
             changed = text[:at] + chance.choice("xyz012 +") + text[at + chance.randint(0, 1):]
@@ -120,7 +107,7 @@ class Rows(Case):
         self.assertEqual(self.refuses(BadText, read_row, text).line, line, text)
 
     def test_what_was_told_is_read(self):
-        bags = list(some_bags(2006, 4))
+        bags = list(bags_for_texts(2006, 4, 12))
         for clock in CLOCKS:
             row = [part for part in bags if part.clock == clock]
             for told in (row, row[:1], tuple(row[1:]), row * 40):

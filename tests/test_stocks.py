@@ -7,7 +7,7 @@ from frontparts.errors import NoStock
 from frontparts.fronts import front_parts
 from frontparts.stocks import cheapest, heights, many_rows
 from tests.samples import CHAIN, F, FLAT, WAYS_300, line, lines, many_webs, plain_examples
-from tests.tools import CLOCKS, Case, bag, chance_of, deep, is_plain, multiplied, nothing, odd_things, one, product, size
+from tests.tools import CLOCKS, Case, bag, chance_of, deep, is_plain, nothing, odd_things, one, product, size
 
 
 def all_rows(goal, stock):

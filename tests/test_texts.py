@@ -6,8 +6,8 @@ from frontparts.bags import Bag, behind, plain, power, times
 from frontparts.errors import NoRow, NoWay
 from frontparts.listing import all_ways
 from frontparts.texts import bag_text, row_text, way_text, web_text
-from tests.samples import CHAIN, F, FLAT, MANY, Plan, line, lines, many_webs, plain_examples
-from tests.tools import CLOCKS, Case, bag, chance_of, deep, is_plain, is_row, nothing, odd_things, one, random_bag, size
+from tests.samples import CHAIN, F, FLAT, MANY, Plan, bags_for_texts, line, lines, many_webs, plain_examples
+from tests.tools import CLOCKS, Case, bag, deep, is_plain, is_row, nothing, odd_things, one, size
 
 
 def text_of(part):
@@ -16,18 +16,6 @@ def text_of(part):
     for word, number in part.words:
         terms.append(" ".join([str(number)] * (number > 1 or not word) + [word] * (word != "")))
     return " + ".join(terms) if terms else "0"
-
-
-def some_bags(seed, many=12):
-    chance = chance_of(seed)
-    for clock in CLOCKS:
-        yield nothing(clock)
-        for number in range(1, clock):
-            yield bag(clock, one=number)
-            yield bag(clock, xyz=number)
-            yield bag(clock, z=number, one=number)
-        for _ in range(many):
-            yield random_bag(chance, clock, most=4, many=6)
 
 
 class Bags(Case):
@@ -43,7 +31,7 @@ class Bags(Case):
         self.assertEqual(bag_text(bag(7, zz=6, zy=1, x=3, one=5)), "zy + 6 zz + 3 x + 5")
 
     def test_all_kinds_of_bags(self):
-        for part in some_bags(1901):
+        for part in bags_for_texts(1901, 12, 4):
             found = self.answers(bag_text, part)
             self.assertEqual((found, type(found)), (text_of(part), str))
 
@@ -56,7 +44,7 @@ class Bags(Case):
 class Rows(Case):
 
     def test_rows(self):
-        bags = list(some_bags(1902, 4))
+        bags = list(bags_for_texts(1902, 4, 4))
         for clock in CLOCKS:
             row = [part for part in bags if part.clock == clock]
             for told in (row, row[:1], row[:2], tuple(row[::-1]), row * 20):
