@@ -35,12 +35,12 @@ def unmet(alphabet, bag, letters):
     # All words that begin with one from which the bag does not go on have one and the same number.
     waiting = [("", table.get("", 0))]
     while waiting:
-        word, number = waiting.pop()
-        if word in goes_on:
-            longer = [word + letter for letter in reversed(alphabet)]
-            waiting.extend([(start, number + table.get(start, 0)) for start in longer])
-        elif number % bag.clock != 1:
-            return word.ljust(letters, alphabet[0])
+        start, told = waiting.pop()
+        if start in goes_on:
+            longer = [start + letter for letter in reversed(alphabet)]
+            waiting.extend([(later, told + table.get(later, 0)) for later in longer])
+        elif told % bag.clock != 1:
+            return start.ljust(letters, alphabet[0])
     return None
 
 
